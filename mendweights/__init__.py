@@ -1,0 +1,1 @@
+"""Mendweights: weights mended by mistakes."""
