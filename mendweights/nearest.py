@@ -122,3 +122,7 @@ def nearest_shares(vectors):
     for place, top in zip(corral.places, tops):
         shares[place] = part(top, total)
     return shares
+
+
+def nearest_mixture(vectors):
+    return mixture(vectors, nearest_shares(vectors))

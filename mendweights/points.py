@@ -1,5 +1,6 @@
 """Products and squares of tuples of numbers, what weights tell of rows, and whole weights."""
 
+from mendweights.errors import NoSide
 from mendweights.parts import shared_factor
 
 
@@ -38,6 +39,12 @@ def gap_on(rows, weights):
 
 def farthest(rows):
     return max([square(lifted(point)) for point, side in rows], default=0)
+
+
+def look_at_sides(rows, sides):
+    for point, side in rows:
+        if not 0 <= side < sides:
+            raise NoSide(f"there is no side {side}")
 
 
 def least_multiple(numbers):

@@ -1,7 +1,7 @@
 """Runs of rows through a hand, their books, and the bounds of mistakes."""
 
-from mendweights.errors import NoSide, NotParted, TooMany, WrongBook
-from mendweights.points import are_parted, farthest, gap_on, square, told_by
+from mendweights.errors import NotParted, TooMany, WrongBook
+from mendweights.points import are_parted, farthest, gap_on, look_at_sides, square, told_by
 
 
 def run_once(hand, rows, most, book):
@@ -41,19 +41,13 @@ def bound_of(rows, weights, margin=0):
     return (farthest(rows) + 2 * margin) * square(weights) // (gap * gap)
 
 
-def look_at_sides(rows, weights):
-    for point, side in rows:
-        if not 0 <= side < len(weights):
-            raise NoSide(f"there are no weights for the side {side}")
-
-
 def row_gap(point, side, weights):
     products = [told_by(some, point) for some in weights]
     return products[side] - max(products[:side] + products[side + 1:])
 
 
 def sides_gap(rows, weights):
-    look_at_sides(rows, weights)
+    look_at_sides(rows, len(weights))
     return min([row_gap(point, side, weights) for point, side in rows])
 
 

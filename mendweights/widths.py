@@ -1,15 +1,9 @@
 """Two sides: weights that part them, or mixtures that meet; the width between them, and the rows that hold it."""
 
-from mendweights.errors import NoSide, OneSide
-from mendweights.nearest import mixture, nearest_shares
+from mendweights.errors import OneSide
+from mendweights.nearest import nearest_mixture, nearest_shares
 from mendweights.parts import both, by, part
-from mendweights.points import made_whole, product
-
-
-def look_at_sides(rows):
-    for point, side in rows:
-        if side not in (0, 1):
-            raise NoSide(f"there is no side {side}")
+from mendweights.points import look_at_sides, made_whole, product
 
 
 def numbers_of(rows, side):
@@ -25,7 +19,7 @@ def are_of_both(rows):
 
 
 def look_at_both(rows):
-    look_at_sides(rows)
+    look_at_sides(rows, 2)
     if not are_of_both(rows):
         raise OneSide("the rows are of one side")
 
@@ -47,8 +41,7 @@ def differences(rows):
 
 
 def nearest_difference(rows):
-    vectors = differences(rows)
-    return mixture(vectors, nearest_shares(vectors))
+    return nearest_mixture(differences(rows))
 
 
 def one_side_weights(rows):
@@ -57,7 +50,7 @@ def one_side_weights(rows):
 
 
 def parting(rows):
-    look_at_sides(rows)
+    look_at_sides(rows, 2)
     if not are_of_both(rows):
         return one_side_weights(rows)
     # Made whole ahead of the constant too: the weights differ by a factor above 0, which they lose at the end.
